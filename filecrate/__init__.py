@@ -1,0 +1,1 @@
+"""Filecrate: bundles of files as rows of bytes."""
