@@ -4,7 +4,8 @@ import copy
 import inspect
 import unittest
 
-from filecrate import checks, numbers, sums
+from filecrate import checks, links, numbers, paths, pressing, sums, trees
+from filecrate.errors import CrateError
 
 INTERFACE = (
     (numbers, "number_bytes", ["n"]),
@@ -17,12 +18,36 @@ INTERFACE = (
     (sums, "sum_changed", ["before", "many", "place", "old", "new"]),
     (checks, "check_of", ["some"]),
     (checks, "check_on", ["before", "some"]),
+    (pressing, "pressed", ["kind", "body"]),
+    (pressing, "unpressed", ["kind", "some"]),
+    (pressing, "best_kind", ["body"]),
+    (paths, "is_path", ["thing"]),
+    (paths, "clean", ["text"]),
+    (paths, "above", ["path"]),
+    (paths, "way_between", ["folder", "goal"]),
+    (trees, "is_entry", ["thing"]),
+    (trees, "is_tree", ["thing"]),
+    (trees, "tree_of", ["entries"]),
+    (trees, "under", ["tree", "path"]),
+    (trees, "put_under", ["tree", "path", "part"]),
+    (trees, "differences", ["one", "other"]),
+    (links, "landing", ["tree", "path"]),
+    (links, "ways_out", ["tree"]),
 )
 
 BODY = tuple(k % 256 for k in range(1000))
 BYTES = tuple(k * 7 % 256 for k in range(20000))
 
-# How a function is asked, and what it tells: a whole number, a tuple of them, or a pair of two.
+TREE = (
+    ("folder", "a"), ("file", "a-b", BODY), ("folder", "a/b"), ("link", "a/b/up", "../.."), ("file", "a/f", (1, 2)),
+    ("link", "out", "../a"), ("link", "way", "a/b"),
+)
+PART = (("file", "x", ()), ("folder", "y"))
+
+# A thing of all kinds that may be asked of, lists among them.
+THING = [("folder", "a"), ["file", "a", [1, True, None]], [[["a"]]], (), 5]
+
+# How a function is asked, and what it tells, as told in KINDS.
 CALLS = (
     (numbers.number_bytes, (0,), "bytes"),
     (numbers.number_bytes, (128,), "bytes"),
@@ -48,7 +73,86 @@ CALLS = (
     (checks.check_of, (BYTES,), "number"),
     (checks.check_on, (0, (0,)), "number"),
     (checks.check_on, (65535, BYTES), "number"),
+    (pressing.pressed, (0, BODY), "bytes"),
+    (pressing.pressed, (1, BODY), "bytes"),
+    (pressing.pressed, (2, BODY), "bytes"),
+    (pressing.pressed, (1, ()), "bytes"),
+    (pressing.pressed, (2, ()), "bytes"),
+    (pressing.unpressed, (0, BODY), "bytes"),
+    (pressing.unpressed, (1, (1, 9, 8, 130, 1)), "bytes"),
+    (pressing.unpressed, (2, (3, 1, 1, 2, 2, 3, 2, 4, 200)), "bytes"),
+    (pressing.unpressed, (2, (0, 0)), "bytes"),
+    (pressing.best_kind, (BODY,), "number"),
+    (pressing.best_kind, ((),), "number"),
+    (paths.is_path, ("a/b",), "truth"),
+    (paths.is_path, (THING,), "truth"),
+    (paths.clean, ("./a/../b//c",), "text"),
+    (paths.above, ("a",), "texts"),
+    (paths.above, ("a/b/c",), "texts"),
+    (paths.way_between, ("", "a"), "text"),
+    (paths.way_between, ("a/b", "a/c"), "text"),
+    (paths.way_between, ("a", "a"), "text"),
+    (trees.is_entry, (("file", "a", BODY),), "truth"),
+    (trees.is_entry, (THING,), "truth"),
+    (trees.is_entry, (["file", "a", [1]],), "truth"),
+    (trees.is_tree, (TREE,), "truth"),
+    (trees.is_tree, (THING,), "truth"),
+    (trees.is_tree, ((["folder", "a"], ("file", "b", [1])),), "truth"),
+    (trees.tree_of, ((),), "tree"),
+    (trees.tree_of, (TREE[::-1] + (("file", "x/./y", (3,)), ("link", "x/z", "y")),), "tree"),
+    (trees.under, (TREE, "a"), "tree"),
+    (trees.under, (TREE, "a/b"), "tree"),
+    (trees.put_under, (TREE, "a", PART), "tree"),
+    (trees.put_under, (TREE, "a", ()), "tree"),
+    (trees.differences, (TREE, PART), "rows"),
+    (trees.differences, (TREE, TREE), "rows"),
+    (links.landing, (TREE, "way"), "text"),
+    (links.landing, (TREE, "way/up"), "text"),
+    (links.ways_out, (TREE,), "texts"),
 )
+
+REFUSED = (
+    (numbers.read_number, ((128,), 0)),
+    (numbers.read_number, ((128, 0), 0)),
+    (numbers.read_fixed, ((1,), 0, 2)),
+    (pressing.unpressed, (0, BODY + (1,))),
+    (pressing.unpressed, (1, (0, 9, 128, 1))),
+    (pressing.unpressed, (2, (1, 65, 1, 1, 128))),
+    (paths.clean, ("/a",)),
+    (paths.clean, ("a/B",)),
+    (trees.tree_of, ((("file", "a", ()), ("file", "a/b", ())),)),
+    (trees.under, (TREE, "nothing")),
+    (trees.put_under, (TREE, "a-b", PART)),
+    (trees.put_under, (TREE, "a", trees.tree_of((("folder", "1/2/3/4/5/6/7/8"),)))),
+    (links.landing, (TREE, "out")),
+    (links.landing, (TREE, "a/f/x")),
+    (links.landing, ((("link", "a", "a"),), "a")),
+)
+
+
+def is_number(thing):
+    # A truth is an int for Python, but no whole number.
+    return type(thing) is int
+
+
+def is_row(thing, is_part):
+    return type(thing) is tuple and all(is_part(part) for part in thing)
+
+
+def is_text(thing):
+    return type(thing) is str
+
+
+KINDS = {
+    "number": is_number,
+    "truth": lambda told: told is True or told is False,
+    "text": is_text,
+    "bytes": lambda told: is_row(told, lambda part: is_number(part) and 0 <= part <= 255),
+    "pair": lambda told: is_row(told, is_number) and len(told) == 2,
+    "texts": lambda told: is_row(told, is_text),
+    "tree": trees.is_tree,
+    "rows": lambda told: is_row(told, lambda row: is_row(row, is_text) and len(row) == 2),
+}
 
 
 class WholeTest(unittest.TestCase):
@@ -61,22 +165,10 @@ class WholeTest(unittest.TestCase):
         asked = {call[0] for call in CALLS}
         self.assertEqual(asked, {getattr(module, name) for module, name, arguments in INTERFACE})
 
-    def test_what_is_told_is_tuples_and_whole_numbers(self):
+    def test_what_is_told_is_of_its_kind(self):
         for function, handed_in, kind in CALLS:
             with self.subTest(function=function.__name__, handed_in=str(handed_in)[:60]):
-                self.check_kind(function(*handed_in), kind)
-
-    def check_kind(self, told, kind):
-        if kind == "number":
-            # A truth is an int for Python, but no whole number.
-            self.assertIs(type(told), int)
-            return
-        self.assertIs(type(told), tuple)
-        self.assertEqual({type(part) for part in told}, {int})
-        if kind == "pair":
-            self.assertEqual(len(told), 2)
-        else:
-            self.assertTrue(all(0 <= byte <= 255 for byte in told))
+                self.assertTrue(KINDS[kind](function(*handed_in)))
 
     def test_what_is_handed_in_is_not_changed_and_the_same_is_told_again(self):
         for function, handed_in, kind in CALLS:
@@ -92,18 +184,23 @@ class WholeTest(unittest.TestCase):
         again = [function(*handed_in) for function, handed_in, kind in reversed(CALLS)]
         self.assertEqual(first, again[::-1])
 
-    def test_the_same_refusal_is_told_again(self):
-        refused = (
-            (numbers.read_number, ((128,), 0)),
-            (numbers.read_number, ((128, 0), 0)),
-            (numbers.read_fixed, ((1,), 0, 2)),
-        )
-        for function, handed_in in refused:
-            with self.subTest(function=function.__name__, handed_in=handed_in):
-                self.assertIs(self.refusal(function, handed_in), self.refusal(function, handed_in))
+    def test_the_same_refusal_is_told_again_and_changes_nothing(self):
+        for function, handed_in in REFUSED:
+            with self.subTest(function=function.__name__, handed_in=str(handed_in)[:60]):
+                kept = copy.deepcopy(handed_in)
+                first = self.refusal(function, handed_in)
+                self.assertEqual(handed_in, kept)
+                self.assertIs(self.refusal(function, handed_in), first)
+
+    def test_the_names_of_arguments_can_be_used(self):
+        arguments = {name: names for module, name, names in INTERFACE}
+        for function, handed_in, kind in CALLS:
+            with self.subTest(function=function.__name__):
+                by_name = dict(zip(arguments[function.__name__], handed_in))
+                self.assertEqual(function(**by_name), function(*handed_in))
 
     def refusal(self, function, handed_in):
-        with self.assertRaises(ValueError) as caught:
+        with self.assertRaises(CrateError) as caught:
             function(*handed_in)
         return type(caught.exception)
 
