@@ -1,13 +1,16 @@
-"""What a body is."""
+"""What bytes are, and what a body is."""
 
 MOST_OF_BODY = 1000
 
 
 def is_body(thing):
     """Whether a thing is a body."""
-    if not isinstance(thing, tuple) or len(thing) > MOST_OF_BODY:
-        return False
-    return all(is_byte(part) for part in thing)
+    return is_bytes(thing) and len(thing) <= MOST_OF_BODY
+
+
+def is_bytes(thing):
+    """Whether a thing is bytes."""
+    return isinstance(thing, tuple) and all(is_byte(part) for part in thing)
 
 
 def is_byte(thing):

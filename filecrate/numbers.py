@@ -53,6 +53,14 @@ def read_fixed(some, at, many):
     return number, at + many
 
 
+def read_bytes(some, at, many):
+    """So many bytes from this place on, and the place behind them."""
+    behind = at + many
+    if behind > len(some):
+        raise Cut("there are fewer bytes than told")
+    return some[at:behind], behind
+
+
 def byte_at(some, place):
     """The byte at this place, refused with Cut where there is none."""
     # Python would count a place below 0 from the end, where the bytes have no such place.

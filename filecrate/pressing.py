@@ -32,5 +32,12 @@ def unpressed(kind, some):
 
 def best_kind(body):
     """The lowest one of the kinds whose bytes are fewest."""
-    many = [len(pressed(kind, body)) for kind in KINDS]
-    return many.index(min(many))
+    return best_pressed(body)[0]
+
+
+def best_pressed(body):
+    """The best kind of a body, and its bytes of this kind."""
+    ways = [pressed(kind, body) for kind in KINDS]
+    many = [len(some) for some in ways]
+    kind = many.index(min(many))
+    return kind, ways[kind]

@@ -22,11 +22,14 @@ def is_entry(thing):
 
 def is_tree(thing):
     """Whether a thing is a tree."""
-    if not isinstance(thing, tuple) or len(thing) > MOST_ENTRIES:
+    if not isinstance(thing, tuple):
         return False
-    if not all(is_entry(entry) for entry in thing):
-        return False
-    return is_rising(thing) and has_folders_above(thing)
+    return all(is_entry(entry) for entry in thing) and are_tree(thing)
+
+
+def are_tree(entries):
+    """Whether entries in this order are a tree."""
+    return len(entries) <= MOST_ENTRIES and is_rising(entries) and has_folders_above(entries)
 
 
 def is_rising(entries):
@@ -92,10 +95,15 @@ def put_under(tree, path, part):
     ahead = path + "/"
     kept = [entry for entry in tree if not entry[1].startswith(ahead)]
     come = [with_path(entry, ahead + entry[1]) for entry in part]
-    for entry in come:
+    check_parts(come)
+    return in_order(kept + come)
+
+
+def check_parts(entries):
+    """Refuses entries of which one would have a path of too many parts."""
+    for entry in entries:
         if len(parts_of(entry[1])) > MOST_PARTS:
             raise BadPath("a path would have too many parts")
-    return in_order(kept + come)
 
 
 def check_folder(tree, path):

@@ -4,7 +4,8 @@ import copy
 import inspect
 import unittest
 
-from filecrate import checks, links, numbers, paths, pressing, sums, trees
+from filecrate import checks, crates, links, numbers, paths, pressing, rescue, sums, trees, volumes
+from filecrate.desks import Desk
 from filecrate.errors import CrateError
 
 INTERFACE = (
@@ -33,6 +34,20 @@ INTERFACE = (
     (trees, "differences", ["one", "other"]),
     (links, "landing", ["tree", "path"]),
     (links, "ways_out", ["tree"]),
+    (crates, "crate_of", ["tree"]),
+    (crates, "read", ["crate"]),
+    (crates, "listed", ["crate"]),
+    (crates, "taken", ["crate", "path"]),
+    (crates, "changed", ["crate", "tree"]),
+    (crates, "rounds", ["crate"]),
+    (crates, "earlier", ["crate"]),
+    (crates, "history", ["crate", "path"]),
+    (crates, "spare_bytes", ["crate"]),
+    (crates, "squeezed", ["crate"]),
+    (rescue, "rescued", ["some"]),
+    (volumes, "shared", ["some", "most"]),
+    (volumes, "joined", ["volumes"]),
+    (volumes, "said", ["volume"]),
 )
 
 BODY = tuple(k % 256 for k in range(1000))
@@ -43,6 +58,9 @@ TREE = (
     ("link", "out", "../a"), ("link", "way", "a/b"),
 )
 PART = (("file", "x", ()), ("folder", "y"))
+
+CRATE = crates.changed(crates.changed(crates.crate_of(TREE), PART), TREE[:2])
+VOLUMES = volumes.shared(CRATE, 100)
 
 # A thing of all kinds that may be asked of, lists among them.
 THING = [("folder", "a"), ["file", "a", [1, True, None]], [[["a"]]], (), 5]
@@ -109,6 +127,30 @@ CALLS = (
     (links.landing, (TREE, "way"), "text"),
     (links.landing, (TREE, "way/up"), "text"),
     (links.ways_out, (TREE,), "texts"),
+    (crates.crate_of, (TREE,), "bytes"),
+    (crates.crate_of, ((),), "bytes"),
+    (crates.read, (CRATE,), "tree"),
+    (crates.read, (crates.crate_of(()),), "tree"),
+    (crates.listed, (CRATE,), "listed"),
+    (crates.taken, (CRATE, "a"), "entry"),
+    (crates.taken, (CRATE, "a-b"), "entry"),
+    (crates.changed, (CRATE, PART), "bytes"),
+    (crates.rounds, (CRATE,), "number"),
+    (crates.earlier, (CRATE,), "bytes"),
+    (crates.earlier, (crates.crate_of(TREE),), "none"),
+    (crates.history, (CRATE, "x"), "history"),
+    (crates.history, (CRATE, "a/f"), "history"),
+    (crates.spare_bytes, (CRATE,), "number"),
+    (crates.spare_bytes, (crates.crate_of(()),), "number"),
+    (crates.squeezed, (CRATE,), "bytes"),
+    (rescue.rescued, (CRATE,), "entries"),
+    (rescue.rescued, (CRATE[:-30],), "entries"),
+    (rescue.rescued, (BYTES,), "entries"),
+    (volumes.shared, (CRATE, 100), "volumes"),
+    (volumes.shared, (BYTES, 1000), "volumes"),
+    (volumes.joined, (VOLUMES,), "bytes"),
+    (volumes.joined, (VOLUMES[:0:-1],), "bytes"),
+    (volumes.said, (VOLUMES[3],), "pair"),
 )
 
 REFUSED = (
@@ -127,6 +169,13 @@ REFUSED = (
     (links.landing, (TREE, "out")),
     (links.landing, (TREE, "a/f/x")),
     (links.landing, ((("link", "a", "a"),), "a")),
+    (crates.read, (CRATE[:-1],)),
+    (crates.taken, (CRATE, "x")),
+    (crates.changed, (CRATE[1:], TREE)),
+    (volumes.said, (VOLUMES[0][:-1],)),
+    (volumes.joined, (VOLUMES[2:],)),
+    (volumes.joined, ((),)),
+    (Desk, (BYTES,)),
 )
 
 
@@ -143,6 +192,10 @@ def is_text(thing):
     return type(thing) is str
 
 
+def is_listed(row):
+    return type(row) is tuple and [type(part) for part in row] == [str, str, int, int]
+
+
 KINDS = {
     "number": is_number,
     "truth": lambda told: told is True or told is False,
@@ -151,6 +204,12 @@ KINDS = {
     "pair": lambda told: is_row(told, is_number) and len(told) == 2,
     "texts": lambda told: is_row(told, is_text),
     "tree": trees.is_tree,
+    "none": lambda told: told is None,
+    "entry": trees.is_entry,
+    "entries": lambda told: is_row(told, trees.is_entry),
+    "history": lambda told: is_row(told, lambda entry: entry is None or trees.is_entry(entry)),
+    "listed": lambda told: is_row(told, is_listed),
+    "volumes": lambda told: is_row(told, KINDS["bytes"]),
     "rows": lambda told: is_row(told, lambda row: is_row(row, is_text) and len(row) == 2),
 }
 
