@@ -410,6 +410,15 @@ class ChangedBytesTest(BadCrateTest):
                         with self.assertRaises(BadCrate):
                             read(crate[:at] + two + crate[at + 2:])
 
+    def test_each_other_check_of_a_second_round(self):
+        crate = changed(crate_of(()), ())
+        right = crate[-2:]
+        for wrong in range(65536):
+            two = fixed(wrong, 2)
+            if two != right:
+                with self.assertRaises(BadCrate):
+                    read(crate[:-2] + two)
+
     def test_neighbours_changed_about(self):
         for crate in self.crates():
             for at in range(len(crate) - 1):
